@@ -1,6 +1,12 @@
 package hawser_test
 
-import "hawser/hawser"
+import (
+	"strconv"
+	"strings"
+
+	"hawser/api"
+	"hawser/hawser"
+)
 
 // closure: which words are the same, found from the document's lines alone, without any rule.
 type closure struct {
@@ -63,6 +69,38 @@ func (c *closure) join(one, other string) bool {
 	return i != j
 }
 
+// rules: by the document's words: from each word that is not least, while all its shorter parts are.
+func (c *closure) rules() []api.Rule {
+	var all []api.Rule
+	for _, w := range c.words {
+		if c.least(w) != w && c.partsLeast(w) {
+			all = append(all, api.Rule{From: w, To: c.least(w)})
+		}
+	}
+	return all
+}
+
+func (c *closure) partsLeast(word string) bool {
+	for from := range len(word) {
+		for to := from; to <= len(word); to++ {
+			if part := word[from:to]; len(part) < len(word) && c.least(part) != part {
+				return false
+			}
+		}
+	}
+	return true
+}
+
+func (c *closure) count() int {
+	n := 0
+	for _, w := range c.words {
+		if c.least(w) == w {
+			n++
+		}
+	}
+	return n
+}
+
 // numbers: the same ones each time.
 type numbers uint64
 
@@ -79,8 +117,30 @@ func (n *numbers) word(letters, most int) string {
 	return string(w)
 }
 
-// answers: all that a Book tells of its words.
+// pairs: some pairs of words of at most so many letters.
+func (n *numbers) pairs(letters, longest int) [][2]string {
+	var all [][2]string
+	for range 1 + n.below(api.MaxSaid) {
+		all = append(all, [2]string{n.word(letters, longest), n.word(letters, longest)})
+	}
+	return all
+}
+
+// told: rules as words (ba=ab aa=).
+func told(l []api.Rule) string {
+	var all []string
+	for _, r := range l {
+		all = append(all, r.From+"="+r.To)
+	}
+	return strings.Join(all, " ")
+}
+
+// answers: all that a Book tells.
 func answers(b *hawser.Book, letters, most int) []string {
+	return append(leasts(b, letters, most), told(b.Rules()), strconv.Itoa(b.Count()))
+}
+
+func leasts(b *hawser.Book, letters, most int) []string {
 	var all []string
 	for _, w := range allWords(letters, most) {
 		l, _ := b.Least(w)

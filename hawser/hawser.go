@@ -14,7 +14,7 @@ type Book struct {
 	letters int // 0 in a Book that New did not make
 	most    int
 	said    int        // how many pairs
-	rules   []api.Rule // of all that is said; never written to, so that a copy of a Book is a Book of its own
+	rules   []api.Rule // of all that is said, the one with the least From first; never written to, so that a copy of a Book is a Book of its own
 }
 
 // New makes a Book (P3).
@@ -57,10 +57,24 @@ func (b *Book) Same(one string, other string) (bool, api.Errno) {
 }
 
 // Rules tells the rules (P5).
-func (b *Book) Rules() []api.Rule { return nil }
+func (b *Book) Rules() []api.Rule {
+	if b.closed() {
+		return nil
+	}
+	told := make([]api.Rule, len(b.rules))
+	for i, r := range b.rules {
+		told[i] = api.Rule{From: strings.Clone(r.From), To: strings.Clone(r.To)}
+	}
+	return told
+}
 
 // Count tells how many words are least (P6).
-func (b *Book) Count() int { return 0 }
+func (b *Book) Count() int {
+	if b.closed() {
+		return 0
+	}
+	return rules.Count(b.rules, b.letters, b.most)
+}
 
 // Why tells how it is drawn that two words are the same (P7).
 func (b *Book) Why(one string, other string) ([]api.Line, api.Errno) {

@@ -120,6 +120,9 @@ func TestP2Apart(t *testing.T) {
 	if l, _ := other.Least("bba"); l != "a" {
 		t.Errorf("other: %q", l)
 	}
+	if x, y := told(one.Rules()), told(other.Rules()); x != "ba=ab" || y != "bb=" {
+		t.Errorf("the rules of one: %s, of other: %s", x, y)
+	}
 }
 
 func TestP2CopyApart(t *testing.T) {
@@ -172,7 +175,7 @@ func TestP3New(t *testing.T) {
 func TestP3NothingSaid(t *testing.T) {
 	for letters := 1; letters <= api.MaxLetters; letters++ {
 		for most := 1; most <= api.MaxMost; most++ {
-			if got := answers(open(t, letters, most), letters, most); !slices.Equal(got, allWords(letters, most)) {
+			if got := leasts(open(t, letters, most), letters, most); !slices.Equal(got, allWords(letters, most)) {
 				t.Errorf("of nothing said, %d letters, most %d: %q", letters, most, got)
 			}
 		}
@@ -270,14 +273,8 @@ func TestP4Closure(t *testing.T) {
 // sayAndCompare: longest keeps the pairs short, so that many of them act on one another.
 func sayAndCompare(t *testing.T, n *numbers, letters, most, longest int) {
 	t.Helper()
-	b := open(t, letters, most)
-	var said [][2]string
-	for range 1 + n.below(api.MaxSaid) {
-		p := [2]string{n.word(letters, longest), n.word(letters, longest)}
-		said = append(said, p)
-		b.Say(p[0], p[1])
-	}
-	c := newClosure(letters, most, said)
+	said := n.pairs(letters, longest)
+	b, c := open(t, letters, most, said...), newClosure(letters, most, said)
 	before := c.words[0]
 	for _, w := range c.words {
 		if got, e := b.Least(w); got != c.least(w) || e != api.OK {

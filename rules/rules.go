@@ -37,13 +37,28 @@ again:
 	return word
 }
 
-// Learn tells the rules of all that the given ones say, and of one pair more. The given ones must have come from Learn, with the same most; they are left as they are.
+// Count tells how many words are least: those in which no rule's From stands. All but the empty one are such a word and a letter behind it, so that only From's that end with that letter have to be looked for.
+func Count(rules []api.Rule, letters int, most int) int {
+	found := []string{""}
+	for i := 0; i < len(found) && len(found[i]) < most; i++ {
+		for letter := range letters {
+			word := found[i] + string(rune('a'+letter))
+			if !slices.ContainsFunc(rules, func(r api.Rule) bool { return strings.HasSuffix(word, r.From) }) {
+				found = append(found, word)
+			}
+		}
+	}
+	return len(found)
+}
+
+// Learn tells the rules of all that the given ones say, and of one pair more, the one with the least From first. The given ones must have come from Learn, with the same most; they are left as they are.
 func Learn(rules []api.Rule, left string, right string, most int) []api.Rule {
 	s := search{most: most, rules: slices.Clone(rules), waits: queue.New(lighter)}
 	s.wait(left, right)
 	for p, ok := s.waits.Take(); ok; p, ok = s.waits.Take() {
 		s.look(p)
 	}
+	slices.SortFunc(s.rules, func(one api.Rule, other api.Rule) int { return words.Compare(one.From, other.From) })
 	return s.rules
 }
 

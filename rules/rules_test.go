@@ -6,22 +6,15 @@ import (
 	"testing"
 
 	"hawser/api"
-	"hawser/words"
 )
 
-// learn: the rules of pairs, as words (ba=ab aa=), the one with the least From first.
+// learn: the rules of pairs, as words (ba=ab aa=).
 func learn(most int, said string) []api.Rule {
 	var found []api.Rule
 	for _, s := range strings.Fields(said) {
 		left, right, _ := strings.Cut(s, "=")
 		found = Learn(found, left, right, most)
 	}
-	slices.SortFunc(found, func(one, other api.Rule) int {
-		if words.Stand(one.From, other.From) == words.Wrong {
-			return -1
-		}
-		return 1
-	})
 	return found
 }
 
@@ -68,6 +61,27 @@ func TestLearn(t *testing.T) {
 	} {
 		if got := text(learn(c.most, c.said)); got != c.want {
 			t.Errorf("of %s, most %d: %s, want %s", c.said, c.most, got, c.want)
+		}
+	}
+}
+
+func TestCount(t *testing.T) {
+	for _, c := range []struct {
+		letters, most int
+		said          string
+		want          int
+	}{
+		{1, 1, "", 2},
+		{3, 6, "", 1093},
+		{2, 4, "ba=ab", 15},
+		// From's that begin alike, that end alike, and that no letter stands ahead of or behind.
+		{2, 3, "aba=b abb=b", 13},
+		{2, 3, "aab=b bab=b", 13},
+		{2, 3, "bbb=", 14},
+		{3, 6, "a= b= c=", 1},
+	} {
+		if got := Count(learn(c.most, c.said), c.letters, c.most); got != c.want {
+			t.Errorf("of %s, %d letters, most %d: %d, want %d", c.said, c.letters, c.most, got, c.want)
 		}
 	}
 }

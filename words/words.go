@@ -29,9 +29,14 @@ func Is(text string, letters int, most int) bool {
 	return true
 }
 
+// Compare tells which of two words is less: -1, if it is the one, 1, if it is the other, and 0, if they are alike.
+func Compare(one string, other string) int {
+	return cmp.Or(cmp.Compare(len(one), len(other)), strings.Compare(one, other))
+}
+
 // Stand tells how two words stand to each other.
 func Stand(one string, other string) Standing {
-	switch cmp.Or(cmp.Compare(len(one), len(other)), strings.Compare(one, other)) {
+	switch Compare(one, other) {
 	case 0:
 		return Alike
 	case -1:

@@ -26,11 +26,14 @@ func TestStand(t *testing.T) {
 	rising := []string{"", "a", "b", "c", "aa", "ab", "ba", "cc", "aaa", "aab", "caa"}
 	for i, one := range rising {
 		for j, other := range rising {
-			want := Alike
+			want, less := Alike, 0
 			if i < j {
-				want = Wrong
+				want, less = Wrong, -1
 			} else if i > j {
-				want = Right
+				want, less = Right, 1
+			}
+			if got := Compare(one, other); got != less {
+				t.Errorf("Compare(%q, %q) = %d, want %d", one, other, got, less)
 			}
 			if got := Stand(one, other); got != want {
 				t.Errorf("Stand(%q, %q) = %d, want %d", one, other, got, want)
