@@ -63,6 +63,17 @@ func (c *closure) root(i int) int {
 
 func (c *closure) least(word string) string { return c.words[c.root(c.place[word])] }
 
+// kind: all words that are the same as a word.
+func (c *closure) kind(word string) []string {
+	var all []string
+	for _, w := range c.words {
+		if c.least(w) == c.least(word) {
+			all = append(all, w)
+		}
+	}
+	return all
+}
+
 func (c *closure) join(one, other string) bool {
 	i, j := c.root(c.place[one]), c.root(c.place[other])
 	c.up[max(i, j)] = min(i, j)

@@ -2,9 +2,11 @@
 package hawser
 
 import (
+	"slices"
 	"strings"
 
 	"hawser/api"
+	"hawser/draw"
 	"hawser/rules"
 	"hawser/words"
 )
@@ -13,8 +15,9 @@ import (
 type Book struct {
 	letters int // 0 in a Book that New did not make
 	most    int
-	said    int        // how many pairs
-	rules   []api.Rule // of all that is said, the one with the least From first; never written to, so that a copy of a Book is a Book of its own
+	// Neither list is ever written to, so that a copy of a Book is a Book of its own.
+	said  []draw.Pair
+	rules []api.Rule // of all that is said, the one with the least From first
 }
 
 // New makes a Book (P3).
@@ -30,13 +33,14 @@ func (b *Book) Say(left string, right string) (int, api.Errno) {
 	if e := b.check(left, right); e != api.OK {
 		return 0, e
 	}
-	if b.said >= api.MaxSaid {
+	if len(b.said) >= api.MaxSaid {
 		return 0, api.ErrMany
 	}
-	// Rules are made of pieces of these words, and what is handed in is not to be kept.
-	b.rules = rules.Learn(b.rules, strings.Clone(left), strings.Clone(right), b.most)
-	b.said++
-	return b.said - 1, api.OK
+	// Rules are made of pieces of these words too, and what is handed in is not to be kept.
+	pair := draw.Pair{Left: strings.Clone(left), Right: strings.Clone(right)}
+	b.rules = rules.Learn(b.rules, pair.Left, pair.Right, b.most)
+	b.said = slices.Concat(b.said, []draw.Pair{pair})
+	return len(b.said) - 1, api.OK
 }
 
 // Least tells the least word that is the same (P4).
@@ -78,10 +82,14 @@ func (b *Book) Count() int {
 
 // Why tells how it is drawn that two words are the same (P7).
 func (b *Book) Why(one string, other string) ([]api.Line, api.Errno) {
-	if b.closed() {
-		return nil, api.ErrClosed
+	if e := b.check(one, other); e != api.OK {
+		return nil, e
 	}
-	return nil, api.OK
+	lines := draw.Lines(b.said, b.letters, b.most, one, other)
+	if len(lines) == 0 {
+		return nil, api.ErrNone
+	}
+	return lines, api.OK
 }
 
 func (b *Book) closed() bool { return b == nil || b.letters == 0 }
